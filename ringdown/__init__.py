@@ -1,0 +1,1 @@
+"""Ringdown: calls handed on along a tree when something happens."""

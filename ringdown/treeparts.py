@@ -1,0 +1,31 @@
+"""A TREE taken apart by its names, for the files that go along it; what is handed in here is a TREE."""
+
+
+class TreeParts:
+    """What a TREE tells of each NAME, and of the BELL."""
+
+    def __init__(self, tree):
+        wait, deep, people = tree
+        self.wait = wait
+        self.deep = deep
+        self.names = []
+        self.callers = {}
+        self.talks = {}
+        self.lists = {"": []}
+        self.levels = {"": 0}
+        for name, caller, talk in people:
+            self.names.append(name)
+            self.callers[name] = caller
+            self.talks[name] = talk
+            self.lists[name] = []
+            self.lists[caller].append(name)
+            self.levels[name] = self.levels[caller] + 1
+
+
+def walk_below(parts, name):
+    """All who stand BELOW a name, in WALK order."""
+    walk = []
+    for each in parts.lists[name]:
+        walk.append(each)
+        walk.extend(walk_below(parts, each))
+    return walk

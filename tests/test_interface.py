@@ -1,0 +1,69 @@
+"""The interface of DOC.md, as far as it has landed: names, arguments, and the files that define them."""
+
+import importlib
+import inspect
+import unittest
+
+# "name" is needed, "name=worth" may be left out.
+FUNCTIONS = {
+    "words": {
+        "is_whole": "thing", "is_among": "thing, least, most", "is_name": "thing", "number_of": "word",
+        "words_of": "row", "minute_of": "word", "clock_text": "minute",
+    },
+    "tree": {
+        "is_tree": "thing", "need_tree": "tree", "is_away": "tree, thing", "need_away": "tree, away",
+        "names_of": "tree", "list_of": "tree, name=''", "below": "tree, name=''", "level_of": "tree, name=''",
+        "caller_of": "tree, name", "talk_of": "tree, name", "in_walk": "tree", "same_tree": "one, other",
+    },
+    "treetext": {"tree_text": "tree", "read_tree": "text"},
+    "rings": {
+        "ring_calls": "tree, away=None", "told_rows": "tree, away=None", "lost_names": "tree, away=None",
+        "last_of": "tree, away=None", "quiet_of": "tree, away=None", "told_minute": "tree, name, away=None",
+        "carrier_of": "tree, name, away=None",
+    },
+    "ways": {"way_of": "tree, name, away=None", "slack_of": "tree, name, away=None"},
+    "standings": {
+        "standing": "tree, minute, name, away=None", "standings": "tree, minute, away=None",
+        "going_at": "tree, minute, away=None",
+    },
+    "ringcheck": {"check_calls": "tree, calls, away=None"},
+    "worst": {
+        "measure_of": "tree, away=None, which='last', name=''",
+        "worst": "tree, many, which='last', name='', sure=None",
+        "worsts": "tree, which='last', name='', sure=None",
+    },
+}
+
+ERRORS = {
+    "BadRow": "row, word", "BadTree": "part, number=None", "BadAway": "number=None", "BadCall": "number=None",
+    "BadPrices": "number=None", "BadMessage": "number=None", "BadHeard": "number=None", "BadPaper": "place=None",
+    "NoName": "name", "NoHappening": "word", "NoMark": "word", "Busy": "name, until", "TooLate": "minute",
+}
+
+
+def arguments(thing):
+    return str(inspect.signature(thing))[1:-1]
+
+
+class Interface(unittest.TestCase):
+    def test_functions(self):
+        for file, functions in FUNCTIONS.items():
+            module = importlib.import_module("ringdown." + file)
+            for name, told in functions.items():
+                with self.subTest(file=file, name=name):
+                    made = getattr(module, name)
+                    self.assertTrue(inspect.isfunction(made))
+                    self.assertEqual(made.__module__, "ringdown." + file)
+                    self.assertEqual(arguments(made), told)
+
+    def test_errors(self):
+        module = importlib.import_module("ringdown.errors")
+        for name, told in ERRORS.items():
+            with self.subTest(name=name):
+                made = getattr(module, name)
+                self.assertEqual(made.__module__, "ringdown.errors")
+                self.assertEqual(arguments(made), told)
+
+
+if __name__ == "__main__":
+    unittest.main()

@@ -1,0 +1,107 @@
+"""Point [0]: nothing handed in is changed, and what is told is the asker's own."""
+
+import unittest
+from copy import deepcopy
+
+from ringdown.errors import BadCall
+from ringdown.ringcheck import check_calls
+from ringdown.rings import carrier_of, last_of, lost_names, quiet_of, ring_calls, told_minute, told_rows
+from ringdown.standings import going_at, standing, standings
+from ringdown.tree import below, in_walk, is_away, is_tree, list_of, names_of
+from ringdown.treetext import read_tree, tree_text
+from ringdown.ways import slack_of, way_of
+from ringdown.words import words_of
+from ringdown.worst import measure_of, worst, worsts
+from tests.samples import TREE, with_deep
+
+SHORT = with_deep(1)
+AWAY = ("bob",)
+
+TELL_LISTS = (
+    lambda: words_of("a b c"),
+    lambda: ring_calls(TREE, AWAY),
+    lambda: told_rows(TREE, AWAY),
+    lambda: lost_names(SHORT, AWAY),
+    lambda: way_of(TREE, "fay", AWAY),
+    lambda: standings(TREE, 3, AWAY),
+    lambda: going_at(TREE, 3, AWAY),
+)
+
+TELL_TUPLES = (
+    lambda: names_of(TREE),
+    lambda: list_of(TREE),
+    lambda: below(TREE, "ann"),
+    lambda: in_walk(TREE),
+    lambda: read_tree(tree_text(TREE)),
+    lambda: worsts(TREE),
+)
+
+TELL_NUMBERS = (
+    lambda: last_of(TREE, AWAY),
+    lambda: quiet_of(TREE, AWAY),
+    lambda: told_minute(TREE, "eve", AWAY),
+    lambda: slack_of(TREE, "eve", AWAY),
+    lambda: measure_of(SHORT, AWAY, "lost"),
+    lambda: worst(TREE, 2),
+)
+
+TELL_TEXTS = (
+    lambda: tree_text(TREE),
+    lambda: carrier_of(TREE, "eve", AWAY),
+    lambda: standing(TREE, 3, "bob", AWAY),
+)
+
+
+class Untouched(unittest.TestCase):
+    def test_kinds(self):
+        for kind, tellers in ((list, TELL_LISTS), (tuple, TELL_TUPLES), (int, TELL_NUMBERS), (str, TELL_TEXTS)):
+            for tell in tellers:
+                self.assertIs(type(tell()), kind)
+
+    def test_rows_are_tuples(self):
+        for tell in TELL_LISTS[1:3] + TELL_LISTS[4:]:
+            for row in tell():
+                self.assertIs(type(row), tuple)
+
+    def test_what_is_told_is_the_askers_own(self):
+        for tell in TELL_LISTS:
+            first = tell()
+            kept = deepcopy(first)
+            self.assertTrue(first)
+            first.reverse()
+            first.append("more")
+            first[0] = None
+            self.assertEqual(tell(), kept)
+            second = tell()
+            first.clear()
+            self.assertEqual(second, kept)
+
+    def test_calls_told_and_changed_change_no_other_answer(self):
+        calls = ring_calls(TREE, AWAY)
+        way = way_of(TREE, "fay", AWAY)
+        calls.clear()
+        way.clear()
+        self.assertEqual(check_calls(TREE, ring_calls(TREE, AWAY), AWAY), last_of(TREE, AWAY))
+        self.assertEqual(len(standings(TREE, 3, AWAY)), 6)
+
+    def test_calls_handed_in_are_not_changed(self):
+        calls = ring_calls(TREE, AWAY)
+        kept = deepcopy(calls)
+        check_calls(TREE, calls, AWAY)
+        self.assertEqual(calls, kept)
+        wrong = [["a list"], kept[0]]
+        with self.assertRaises(BadCall):
+            check_calls(TREE, wrong, AWAY)
+        self.assertEqual(wrong, [["a list"], kept[0]])
+
+    def test_what_is_no_tree_is_not_changed(self):
+        thing = [1, 0, [["a", "", 1]]]
+        self.assertIs(is_tree(thing), False)
+        self.assertEqual(thing, [1, 0, [["a", "", 1]]])
+        away = ["ann"]
+        self.assertIs(is_away(TREE, away), False)
+        self.assertEqual(away, ["ann"])
+
+
+if __name__ == "__main__":
+    unittest.main()
