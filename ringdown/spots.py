@@ -5,18 +5,8 @@ away BELOW one NAME of a LIST changes nothing BELOW another one: so it is enough
 NAME gets, not at who they are.
 """
 
-from ringdown.treeparts import TreeParts, walk_below
-
-
-class Search:
-    """A question for the WORST of a TREE by 0, 1, .. many away ones."""
-
-    def __init__(self, tree, many, which, name, sure):
-        self.parts = TreeParts(tree)
-        self.many = many
-        self.which = which
-        self.asked = name
-        self.sure = sure
+from ringdown.measures import may_be_away
+from ringdown.treeparts import walk_below
 
 
 class Spot:
@@ -27,14 +17,11 @@ class Spot:
         self.most = most
 
 
-def sights_of(deep):
-    """The SIGHTs of each NAME's SPOTs, rising."""
-    return [0] if deep == 0 else list(range(1, deep + 1))
-
-
-def may_be_away(search, name):
-    """Whether a NAME may be away."""
-    return name not in search.sure and name != search.asked
+def spots_in_order(search):
+    """The SPOTs of the TREE, the last of PEOPLE first, SIGHTs rising."""
+    deep = search.parts.deep
+    sights = [0] if deep == 0 else list(range(1, deep + 1))
+    return [(name, sight) for name in search.parts.names[::-1] for sight in sights]
 
 
 def parted(one, other):
@@ -91,11 +78,13 @@ def behind_call(took, counts, most):
 
 def most_there(search, spots, name):
     """MOST of a SPOT whose NAME is there."""
+    talk = search.parts.talks[name]
+    if search.which == "told" and name == search.asked:
+        return [talk] * (search.many + 1)
     made = list_most(search, spots, search.parts.lists[name], search.parts.deep)
     if search.which == "lost":
         return made
-    counts = search.which != "told" or name == search.asked
-    return [behind_call(search.parts.talks[name], counts, most) for most in made]
+    return [behind_call(talk, search.which != "told", most) for most in made]
 
 
 def list_behind_away(search, spots, name, sight):
@@ -130,15 +119,19 @@ def spot_of(search, spots, name, sight):
 
 
 def spots_of(search):
-    """What each SPOT of the TREE comes to, by (NAME, SIGHT), the last of PEOPLE first."""
+    """What each SPOT of the TREE comes to, by (NAME, SIGHT), in the order of the TABLE."""
     spots = {}
-    for name in search.parts.names[::-1]:
-        for sight in sights_of(search.parts.deep):
-            spots[(name, sight)] = spot_of(search, spots, name, sight)
+    for name, sight in spots_in_order(search):
+        spots[(name, sight)] = spot_of(search, spots, name, sight)
     return spots
+
+
+def bell_most(search, spots):
+    """What the BELL's LIST makes for MOST by 0, 1, .. many away ones, 0 where there is none."""
+    most = list_most(search, spots, search.parts.lists[""], search.parts.deep)
+    return [max(each, 0) for each in most]
 
 
 def worst_by_many(search):
     """The WORSTs of the TREE by 0, 1, .. many away ones."""
-    most = list_most(search, spots_of(search), search.parts.lists[""], search.parts.deep)
-    return [max(each, 0) for each in most]
+    return bell_most(search, spots_of(search))

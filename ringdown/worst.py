@@ -1,8 +1,8 @@
 """The MEASURES of a RING, and the worst that so many away ones can do."""
 
-from ringdown.measures import need_many, need_measure
+from ringdown.measures import need_many, need_measure, search_of
 from ringdown.rings import last_of, lost_names, quiet_of, told_minute
-from ringdown.spots import Search, worst_by_many
+from ringdown.spots import worst_by_many
 from ringdown.tree import away_or_nobody, names_of, need_tree
 
 
@@ -24,15 +24,10 @@ def worst(tree, many, which="last", name="", sure=None):
     """The WORST of at most so many away ones."""
     need_tree(tree)
     need_many(many)
-    need_measure(tree, which, name)
-    search = Search(tree, many, which, name, away_or_nobody(tree, sure))
-    return worst_by_many(search)[many]
+    return worst_by_many(search_of(tree, many, which, name, sure))[many]
 
 
 def worsts(tree, which="last", name="", sure=None):
     """The WORSTs by 0, 1, .. as many away ones as there are PEOPLE."""
-    need_tree(tree)
-    need_measure(tree, which, name)
-    people = names_of(tree)
-    search = Search(tree, len(people), which, name, away_or_nobody(tree, sure))
-    return tuple(worst_by_many(search))
+    many = len(names_of(tree))
+    return tuple(worst_by_many(search_of(tree, many, which, name, sure)))

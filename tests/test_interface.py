@@ -32,6 +32,26 @@ FUNCTIONS = {
         "worst": "tree, many, which='last', name='', sure=None",
         "worsts": "tree, which='last', name='', sure=None",
     },
+    "worsttables": {
+        "worst_table": "tree, many, which='last', name='', sure=None",
+        "worst_paper": "tree, many, which='last', name='', sure=None",
+    },
+    "worstcheck": {
+        "check_worst": "tree, many, paper, which='last', name='', sure=None",
+        "check_fewest": "tree, least, paper, which='last', name='', sure=None",
+    },
+    "fewest": {
+        "fewest": "tree, least, which='last', name='', sure=None",
+        "fewest_paper": "tree, least, which='last', name='', sure=None",
+        "best_sure": "tree, many, which='last', name=''",
+    },
+    "orders": {
+        "tails": "tree, away=None, which='last'", "in_order": "tree, away=None, which='last'",
+        "soonest": "tree, away=None, which='last'", "count_orders": "tree, away=None",
+    },
+    "ordercheck": {
+        "order_paper": "tree, away=None, which='last'", "check_order": "tree, paper, away=None, which='last'",
+    },
 }
 
 ERRORS = {

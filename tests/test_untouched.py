@@ -4,6 +4,9 @@ import unittest
 from copy import deepcopy
 
 from ringdown.errors import BadCall
+from ringdown.fewest import best_sure, fewest, fewest_paper
+from ringdown.ordercheck import check_order, order_paper
+from ringdown.orders import count_orders, in_order, soonest, tails
 from ringdown.ringcheck import check_calls
 from ringdown.rings import carrier_of, last_of, lost_names, quiet_of, ring_calls, told_minute, told_rows
 from ringdown.standings import going_at, standing, standings
@@ -12,6 +15,8 @@ from ringdown.treetext import read_tree, tree_text
 from ringdown.ways import slack_of, way_of
 from ringdown.words import words_of
 from ringdown.worst import measure_of, worst, worsts
+from ringdown.worstcheck import check_fewest, check_worst
+from ringdown.worsttables import worst_paper, worst_table
 from tests.samples import TREE, with_deep
 
 SHORT = with_deep(1)
@@ -25,6 +30,10 @@ TELL_LISTS = (
     lambda: way_of(TREE, "fay", AWAY),
     lambda: standings(TREE, 3, AWAY),
     lambda: going_at(TREE, 3, AWAY),
+    lambda: best_sure(TREE, 2),
+    lambda: tails(TREE, AWAY),
+    lambda: order_paper(TREE, AWAY),
+    lambda: order_paper(TREE, AWAY, "sum"),
 )
 
 TELL_TUPLES = (
@@ -34,6 +43,10 @@ TELL_TUPLES = (
     lambda: in_walk(TREE),
     lambda: read_tree(tree_text(TREE)),
     lambda: worsts(TREE),
+    lambda: worst_table(TREE, 2),
+    lambda: worst_paper(TREE, 2),
+    lambda: fewest_paper(TREE, 18),
+    lambda: in_order(TREE, AWAY),
 )
 
 TELL_NUMBERS = (
@@ -43,6 +56,12 @@ TELL_NUMBERS = (
     lambda: slack_of(TREE, "eve", AWAY),
     lambda: measure_of(SHORT, AWAY, "lost"),
     lambda: worst(TREE, 2),
+    lambda: check_worst(TREE, 2, worst_paper(TREE, 2)),
+    lambda: fewest(TREE, 18),
+    lambda: check_fewest(TREE, 18, fewest_paper(TREE, 18)),
+    lambda: soonest(TREE, AWAY, "sum"),
+    lambda: count_orders(TREE, AWAY),
+    lambda: check_order(TREE, order_paper(TREE, AWAY), AWAY),
 )
 
 TELL_TEXTS = (
