@@ -3,7 +3,7 @@
 from ringdown.errors import OutOfPlace
 from ringdown.rings import ANSWERED, CALLEE, CALLER, ring_calls, still_shown
 from ringdown.tree import away_or_nobody
-from ringdown.treeparts import TreeParts, walk_below
+from ringdown.treeparts import TreeParts, tree_of, walk_below
 
 AIMS = ("last", "quiet", "sum")
 
@@ -112,15 +112,9 @@ def are_alike(blocks, one, other):
     return not goes_ahead(blocks, one, other) and not goes_ahead(blocks, other, one)
 
 
-def walk_of(blocks, lists, name):
-    """The PERSONs BELOW a name, in WALK order, the LISTs that are told of in lists standing as they do there."""
-    people = []
-    for each in lists.get(name, blocks.parts.lists[name]):
-        people.append((each, name, blocks.parts.talks[each]))
-        people.extend(walk_of(blocks, lists, each))
-    return people
-
-
 def with_lists(blocks, lists):
     """The TREE with LISTs in other orders; lists: these LISTs by the names whose they are."""
-    return (blocks.parts.wait, blocks.parts.deep, tuple(walk_of(blocks, lists, "")))
+    parts = TreeParts(blocks.tree)
+    for name, order in lists.items():
+        parts.lists[name] = order
+    return tree_of(parts)

@@ -1,7 +1,7 @@
 """Trees of people, who stands where in them, and who is away."""
 
 from ringdown.errors import BadAway, BadTree, NoName
-from ringdown.treeparts import TreeParts, walk_below
+from ringdown.treeparts import TreeParts, tree_of, walk_below
 from ringdown.words import is_among, is_name
 
 LONGEST_CALL = 60
@@ -164,9 +164,7 @@ def talk_of(tree, name):
 def in_walk(tree):
     """The TREE ALIKE to it whose PEOPLE stand in WALK order."""
     need_tree(tree)
-    parts = TreeParts(tree)
-    walk = walk_below(parts, "")
-    return (parts.wait, parts.deep, tuple([(name, parts.callers[name], parts.talks[name]) for name in walk]))
+    return tree_of(TreeParts(tree))
 
 
 def same_tree(one, other):

@@ -29,3 +29,17 @@ def walk_below(parts, name):
         walk.append(each)
         walk.extend(walk_below(parts, each))
     return walk
+
+
+def people_below(parts, name):
+    """The PERSONs BELOW a name, in WALK order, as the LISTs stand by now."""
+    people = []
+    for each in parts.lists[name]:
+        people.append((each, name, parts.talks[each]))
+        people.extend(people_below(parts, each))
+    return people
+
+
+def tree_of(parts):
+    """The TREE of its parts, in WALK order; its LISTs may have been changed, for nothing else is looked at."""
+    return (parts.wait, parts.deep, tuple(people_below(parts, "")))

@@ -52,6 +52,20 @@ FUNCTIONS = {
     "ordercheck": {
         "order_paper": "tree, away=None, which='last'", "check_order": "tree, paper, away=None, which='last'",
     },
+    "counts": {
+        "reached": "rounds, many", "fewest_rounds": "hands, many",
+        "soonest_tree": "names, many, talk, wait=1, deep=0",
+    },
+    "places": {"places": "tree, talk, many=0", "best_places": "tree, talk, many=0"},
+    "messages": {
+        "is_message": "thing", "need_message": "thing", "need_prices": "thing",
+        "change_cost": "prices, one, other", "steps_of": "prices, one, other", "made_by": "prices, one, steps",
+    },
+    "changepaper": {"change_paper": "prices, one, other", "check_change": "prices, one, other, paper"},
+    "stories": {
+        "need_case": "case", "states_of": "case", "row_of": "case, name=''", "story_cost": "case, story",
+        "story_price": "case", "count_stories": "case", "least_story": "case",
+    },
 }
 
 ERRORS = {
