@@ -16,9 +16,9 @@ class Blocks:
     """
 
     def __init__(self, tree, away, which):
-        self.tree = tree
+        self.from_tree = tree
         self.parts = TreeParts(tree)
-        self.away = away
+        self.away_ones = away
         self.which = which
         self.gone = names_gone_through(tree, self.parts, away)
         self.names = [name for name in walk_below(self.parts, "") if self.parts.callers[name] in self.gone]
@@ -54,7 +54,7 @@ def names_gone_through(tree, parts, away):
 
 def is_there(blocks, name):
     """Whether a NAME is there."""
-    return name not in blocks.away
+    return name not in blocks.away_ones
 
 
 def own_call(blocks, name):
@@ -112,9 +112,9 @@ def are_alike(blocks, one, other):
     return not goes_ahead(blocks, one, other) and not goes_ahead(blocks, other, one)
 
 
-def with_lists(blocks, lists):
-    """The TREE with LISTs in other orders; lists: these LISTs by the names whose they are."""
-    parts = TreeParts(blocks.tree)
-    for name, order in lists.items():
+def with_lists(blocks, orders):
+    """The TREE with LISTs in other orders; orders: these LISTs by the names whose they are."""
+    parts = TreeParts(blocks.from_tree)
+    for name, order in orders.items():
         parts.lists[name] = order
     return tree_of(parts)

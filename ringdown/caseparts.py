@@ -8,9 +8,9 @@ from ringdown.tree import names_of
 class CaseParts:
     """What a CASE tells of each who is there, and of the bell.
 
-    there: who is there, rising. told: those of them who have a CARRIER, each behind it. rows: ROWs, by whose they
-    are. states: the STATES, rising. heard: what is told of those in HEARD, and of the bell. handed: what a STATE
-    costs HANDED ON to another one, by the two.
+    there: who is there, rising. carried: those of them who have a CARRIER, each behind it. uncarried: those who have
+    none. rows: ROWs, by whose they are. states: the STATES, rising. heard: what is told of those in HEARD, and of the
+    bell. handed: what a STATE costs HANDED ON to another one, by the two.
     """
 
     def __init__(self, case):
@@ -19,17 +19,17 @@ class CaseParts:
         self.broken_off = prices[BROKEN_OFF]
         self.there = sorted([name for name in names_of(tree) if name not in away])
         self.rows = {name: [] for name in [""] + self.there}
-        self.told = []
+        self.carried = []
         self.carriers = {}
         for call in ring_calls(tree, away):
             if call[ANSWERED]:
                 self.rows[call[CALLER]].append(call[CALLEE])
-                self.told.append(call[CALLEE])
+                self.carried.append(call[CALLEE])
                 self.carriers[call[CALLEE]] = call[CALLER]
-        self.lost = [name for name in self.there if name not in self.carriers]
+        self.uncarried = [name for name in self.there if name not in self.carriers]
         self.heard = {name: state for name, state in heard}
         self.heard[""] = first
-        self.states = sorted(set([(), first] + [state for _, state in heard]))
+        self.states = sorted(set([(), first] + [row[1] for row in heard]))
         self.handed = handed_between(prices, self.states)
 
 
@@ -69,7 +69,7 @@ def row_cost(parts, state, row_states):
 
 def story_cost_of(parts, told_states):
     """What a STORY costs; told_states: the STATEs by names, the bell's, too."""
-    total = sum([cost_by_itself(parts, told_states[name]) for name in parts.lost])
+    total = sum([cost_by_itself(parts, told_states[name]) for name in parts.uncarried])
     for name, row in parts.rows.items():
         total = total + row_cost(parts, told_states[name], [told_states[each] for each in row])
     return total

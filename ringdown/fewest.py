@@ -23,7 +23,7 @@ def fewest_of(search, least):
 
 def by_at_most(search, many):
     """The same question by at most so many away ones."""
-    return Search(search.tree, many, search.which, search.asked, search.sure)
+    return Search(search.from_tree, many, search.which, search.asked, search.sure)
 
 
 def fewest(tree, least, which="last", name="", sure=None):

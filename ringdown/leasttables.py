@@ -49,14 +49,14 @@ def least_tables(parts, fixed):
     """The least numbers of all who are there, where the STATES of some are fixed."""
     tables = {}
     # Each has its CARRIER ahead: from the last one on those of a ROW are known when their caller's turn comes.
-    for name in parts.lost + parts.told[::-1]:
+    for name in parts.uncarried + parts.carried[::-1]:
         tables[name] = table_made(parts, tables, name, fixed)
     return tables
 
 
 def sum_of(parts, tables):
     """SUM of numbers by names, then by STATES."""
-    alone = [alone_least(parts, tables[name]) for name in parts.lost]
+    alone = [alone_least(parts, tables[name]) for name in parts.uncarried]
     return together([makes(parts, tables, "", parts.heard[""])] + alone)
 
 

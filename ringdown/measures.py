@@ -13,7 +13,7 @@ class Search:
     """A question for the WORST of a TREE by at most so many away ones."""
 
     def __init__(self, tree, many, which, name, sure):
-        self.tree = tree
+        self.from_tree = tree
         self.parts = TreeParts(tree)
         self.many = many
         self.which = which

@@ -107,5 +107,5 @@ def check_order(tree, paper, away=None, which="last"):
     if number is not None:
         raise BadPaper(number)
     if which == "sum":
-        return comes_to(with_lists(blocks, dict(paper)), blocks.away, which)
+        return comes_to(with_lists(blocks, dict(paper)), blocks.away_ones, which)
     return bound_shown(blocks, paper)

@@ -85,7 +85,7 @@ def comes_to(tree, away, which):
 def soonest(tree, away=None, which="last"):
     """The least that any order of the LISTs comes to."""
     blocks = blocks_of(tree, away, which)
-    return comes_to(tree_in_order(blocks), blocks.away, which)
+    return comes_to(tree_in_order(blocks), blocks.away_ones, which)
 
 
 def orders_alike(blocks, name):

@@ -109,22 +109,20 @@ def count_stories(case):
     return count_cheapest(case_parts(case))
 
 
-def fixed_by_price(parts, fixed, name, price):
-    """The STATEs that are fixed, and the least STATE of a name by which some STORY still costs just that."""
-    for state in states_left(parts, fixed, name):
-        tried = {each: fixed[each] for each in fixed}
-        tried[name] = state
-        if price_of(parts, tried) == price:
-            return tried
-    return fixed
+def with_state(fixed, name, state):
+    """The STATEs that are fixed, and one more."""
+    more = {each: fixed[each] for each in fixed}
+    more[name] = state
+    return more
 
 
 def least_of(parts):
-    """The least of the CHEAPEST STORIES."""
+    """The least of the CHEAPEST STORIES: one by one each has the least STATE by which some STORY costs no more."""
     fixed = parts.heard
     price = price_of(parts, fixed)
     for name in parts.there:
-        fixed = fixed_by_price(parts, fixed, name, price)
+        choices = [with_state(fixed, name, state) for state in states_left(parts, fixed, name)]
+        fixed = [choice for choice in choices if price_of(parts, choice) == price][0]
     return tuple([(name, fixed[name]) for name in parts.there])
 
 

@@ -41,18 +41,19 @@ def count_row(parts, tables, name, state):
     return cheapest([(row[0] - max(0, saved - parts.broken_off), row[1]) for saved, row in found.items()])
 
 
-def count_alone(parts, table):
-    """How many ways cost the least of one to whom nothing is handed on."""
-    return cheapest([(cost_by_itself(parts, state) + count[0], count[1]) for state, count in table.items()])[1]
+def count_alone(parts, name):
+    """How many STATES cost the least of one without a CARRIER, who calls nobody."""
+    costs = [cost_by_itself(parts, state) for state in states_left(parts, parts.heard, name)]
+    return costs.count(min(costs))
 
 
 def count_cheapest(parts):
     """How many STORIES are CHEAPEST."""
     tables = {}
-    for name in parts.lost + parts.told[::-1]:
+    for name in parts.carried[::-1]:
         left = states_left(parts, parts.heard, name)
         tables[name] = {state: count_row(parts, tables, name, state) for state in left}
     many = count_row(parts, tables, "", parts.heard[""])[1]
-    for name in parts.lost:
-        many = many * count_alone(parts, tables[name])
+    for name in parts.uncarried:
+        many = many * count_alone(parts, name)
     return many

@@ -16,11 +16,11 @@ def need_pair(paper):
 
 def measure_by(search, away):
     """The MEASURE by away ones that may be away, no more than are asked for; else, or where it is None, BadPaper."""
-    if not is_away(search.tree, away) or len(away) > search.many:
+    if not is_away(search.from_tree, away) or len(away) > search.many:
         raise BadPaper(0)
     if not all([may_be_away(search, name) for name in away]):
         raise BadPaper(0)
-    measure = measure_of(search.tree, away, search.which, search.asked)
+    measure = measure_of(search.from_tree, away, search.which, search.asked)
     if measure is None:
         raise BadPaper(0)
     return measure

@@ -24,7 +24,7 @@ def away_that_make(search, least):
     sure = list(search.sure)
     for name in sorted(search.parts.names):
         if may_be_away(search, name):
-            without = Search(search.tree, search.many, search.which, search.asked, sure + [name])
+            without = Search(search.from_tree, search.many, search.which, search.asked, sure + [name])
             if worst_by_many(without)[search.many] >= least:
                 sure.append(name)
             else:

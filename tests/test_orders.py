@@ -160,6 +160,7 @@ class Soonest(unittest.TestCase):
     def test_by_each_aim(self):
         self.assertEqual([soonest(TREE, None, which) for which in AIMS], [14, 14, 47])
         self.assertEqual([soonest(EMPTY, None, which) for which in AIMS], [0, 0, 0])
+        self.assertEqual(soonest(TREE), 14)
         self.assertEqual([soonest(TREE, ("fay",), which) for which in AIMS], [9, 10, 33])
 
     def test_all_away(self):

@@ -3,13 +3,18 @@
 import unittest
 from copy import deepcopy
 
+from ringdown.changepaper import change_paper
+from ringdown.counts import fewest_rounds, reached, soonest_tree
 from ringdown.errors import BadCall
 from ringdown.fewest import best_sure, fewest, fewest_paper
+from ringdown.messages import change_cost, made_by, steps_of
 from ringdown.ordercheck import check_order, order_paper
 from ringdown.orders import count_orders, in_order, soonest, tails
+from ringdown.places import best_places, places
 from ringdown.ringcheck import check_calls
 from ringdown.rings import carrier_of, last_of, lost_names, quiet_of, ring_calls, told_minute, told_rows
 from ringdown.standings import going_at, standing, standings
+from ringdown.stories import count_stories, least_story, row_of, states_of, story_cost, story_price
 from ringdown.tree import below, in_walk, is_away, is_tree, list_of, names_of
 from ringdown.treetext import read_tree, tree_text
 from ringdown.ways import slack_of, way_of
@@ -21,6 +26,10 @@ from tests.samples import TREE, with_deep
 
 SHORT = with_deep(1)
 AWAY = ("bob",)
+PRICES = (1, 2, 3, 4, 5, 6)
+ONE = ("a", "b")
+OTHER = ("b", "c")
+CASE = (TREE, AWAY, PRICES, ONE, (("cid", OTHER),))
 
 TELL_LISTS = (
     lambda: words_of("a b c"),
@@ -34,6 +43,8 @@ TELL_LISTS = (
     lambda: tails(TREE, AWAY),
     lambda: order_paper(TREE, AWAY),
     lambda: order_paper(TREE, AWAY, "sum"),
+    lambda: places(TREE, 2, 1),
+    lambda: best_places(TREE, 2, 1),
 )
 
 TELL_TUPLES = (
@@ -47,6 +58,13 @@ TELL_TUPLES = (
     lambda: worst_paper(TREE, 2),
     lambda: fewest_paper(TREE, 18),
     lambda: in_order(TREE, AWAY),
+    lambda: soonest_tree(("a", "b"), 2, 3),
+    lambda: steps_of(PRICES, ONE, OTHER),
+    lambda: made_by(PRICES, ONE, steps_of(PRICES, ONE, OTHER)),
+    lambda: change_paper(PRICES, ONE, OTHER),
+    lambda: states_of(CASE),
+    lambda: row_of(CASE),
+    lambda: least_story(CASE),
 )
 
 TELL_NUMBERS = (
@@ -62,6 +80,12 @@ TELL_NUMBERS = (
     lambda: soonest(TREE, AWAY, "sum"),
     lambda: count_orders(TREE, AWAY),
     lambda: check_order(TREE, order_paper(TREE, AWAY), AWAY),
+    lambda: reached(3, 2),
+    lambda: fewest_rounds(3, 2),
+    lambda: change_cost(PRICES, ONE, OTHER),
+    lambda: story_cost(CASE, least_story(CASE)),
+    lambda: story_price(CASE),
+    lambda: count_stories(CASE),
 )
 
 TELL_TEXTS = (
