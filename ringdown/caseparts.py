@@ -78,3 +78,10 @@ def story_cost_of(parts, told_states):
 def states_left(parts, fixed, name):
     """The STATES that one who is there, or the bell, may have where some are fixed."""
     return [fixed[name]] if name in fixed else parts.states
+
+
+def make_dearer(parts, many):
+    """Makes all that a STORY may cost so many times as dear."""
+    parts.overheard = parts.overheard * many
+    parts.broken_off = parts.broken_off * many
+    parts.handed = {two: cost * many for two, cost in parts.handed.items()}

@@ -3,7 +3,7 @@
 from ringdown.errors import OutOfPlace, TooGreat
 from ringdown.measures import need_many
 from ringdown.tree import MOST_PEOPLE, is_talk, names_of
-from ringdown.treeparts import TreeParts, tree_of, walk_below
+from ringdown.treeparts import TreeParts, put_in, tree_of, walk_below
 from ringdown.worst import worst
 
 LETTERS = "abcdefghijklmnopqrstuvwxyz"
@@ -17,10 +17,7 @@ def free_name(names):
 def with_one_more(tree, caller, number, talk):
     """The TREE with one more at that place of the caller's LIST."""
     parts = TreeParts(tree)
-    name = free_name(parts.names)
-    parts.lists[caller].insert(number, name)
-    parts.lists[name] = []
-    parts.talks[name] = talk
+    put_in(parts, free_name(parts.names), caller, talk, number)
     return tree_of(parts)
 
 

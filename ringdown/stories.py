@@ -57,11 +57,16 @@ def states_of(case):
     return tuple(case_parts(case).states)
 
 
+def need_there_or_bell(parts, name):
+    """Nothing of one who is there, or of the bell, else NoName."""
+    if not isinstance(name, str) or name not in parts.rows:
+        raise NoName(name)
+
+
 def row_of(case, name=""):
     """The ROW of one who is there, or of the bell; NoName of anybody else."""
     parts = case_parts(case)
-    if not isinstance(name, str) or name not in parts.rows:
-        raise NoName(name)
+    need_there_or_bell(parts, name)
     return tuple(parts.rows[name])
 
 

@@ -22,6 +22,13 @@ class TreeParts:
             self.levels[name] = self.levels[caller] + 1
 
 
+def put_in(parts, name, caller, talk, number):
+    """Puts one more, with nobody BELOW, at that place of the caller's LIST."""
+    parts.lists[caller].insert(number, name)
+    parts.lists[name] = []
+    parts.talks[name] = talk
+
+
 def walk_below(parts, name):
     """All who stand BELOW a name, in WALK order."""
     walk = []
@@ -41,5 +48,5 @@ def people_below(parts, name):
 
 
 def tree_of(parts):
-    """The TREE of its parts, in WALK order; its LISTs may have been changed, for nothing else is looked at."""
+    """The TREE of its parts, in WALK order: of WAIT, DEEP, TALKs and LISTs as they are now, nothing else."""
     return (parts.wait, parts.deep, tuple(people_below(parts, "")))

@@ -33,6 +33,7 @@ KINDS = (
 BARRED = re.compile(
     r"\b(type|typing|enum|Enum|Generic|Protocol|ABC|namedtuple|NamedTuple|TypedDict|abstractmethod|_wall)\b"
     r"|dataclass|overload|contextmanager|_WallAttr")
+DOUBLE = ("__init__", "__eq__", "__len__", "__str__", "__repr__")
 UNUSED = set("register mro elements open input law version_info with_traceback add_note".split())
 
 
@@ -169,8 +170,9 @@ class Rows(unittest.TestCase):
                         self.assertNotIn(name, taken, (file, node.name))
                         self.assertFalse(hasattr(builtins, name), (file, node.name, name))
                         self.assertNotIn(name, UNUSED)
-                if isinstance(node, (ast.FunctionDef, ast.ClassDef)) and node.name != "__init__":
+                if isinstance(node, (ast.FunctionDef, ast.ClassDef)) and node.name not in DOUBLE:
                     self.assertFalse(hasattr(builtins, node.name), (file, node.name))
+                    self.assertFalse(node.name.startswith("__"), (file, node.name))
                     self.assertNotIn(node.name, UNUSED)
                 if isinstance(node, ast.Attribute):
                     self.assertNotIn(node.attr, UNUSED)

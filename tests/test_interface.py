@@ -66,6 +66,29 @@ FUNCTIONS = {
         "need_case": "case", "states_of": "case", "row_of": "case, name=''", "story_cost": "case, story",
         "story_price": "case", "count_stories": "case", "least_story": "case",
     },
+    "storypaper": {"story_paper": "case", "check_story": "case, paper"},
+    "blame": {
+        "may_have_heard": "case, name", "sure_faults": "case", "spared_price": "case, name=''",
+        "must_have": "case, name=''", "fewest_to_blame": "case", "must_paper": "case, name=''",
+        "check_must": "case, name, paper",
+    },
+    "changes": {
+        "joined": "tree, name, caller, talk, place=None", "left": "tree, name", "moved": "tree, name, caller, place=None",
+        "retalked": "tree, name, talk", "rewaited": "tree, wait", "redeeped": "tree, deep",
+    },
+    "shapes": {"shape_numbers": "tree", "same_shape": "tree, one, other"},
+}
+
+# Each class by its file, and its methods with their arguments behind the object itself.
+CLASSES = {
+    ("ringing", "Ringing"): {
+        "__init__": "tree=None, away=None", "ring": "happening", "join": "name, caller, talk, place=None", "leave": "name",
+        "move": "name, caller, place=None", "set_talk": "name, talk", "set_wait": "wait", "go_away": "name",
+        "come_back": "name", "go": "minutes=1", "till_quiet": "", "now": "", "tree": "", "away": "", "is_quiet": "",
+        "happenings": "", "standing": "happening, name", "told": "happening", "missed": "happening", "line": "name=''",
+        "going": "", "calls": "", "chain": "happening, name", "forecast": "happening", "deeds": "", "first": "",
+        "copied": "", "__eq__": "other", "__len__": "", "__str__": "", "__repr__": "",
+    },
 }
 
 ERRORS = {
@@ -89,6 +112,18 @@ class Interface(unittest.TestCase):
                     self.assertTrue(inspect.isfunction(made))
                     self.assertEqual(made.__module__, "ringdown." + file)
                     self.assertEqual(arguments(made), told)
+
+    def test_classes(self):
+        for (file, kind), methods in CLASSES.items():
+            made = getattr(importlib.import_module("ringdown." + file), kind)
+            self.assertEqual(made.__module__, "ringdown." + file)
+            for name, told in methods.items():
+                with self.subTest(kind=kind, name=name):
+                    # In the class itself, not in one that it stands under.
+                    self.assertTrue(inspect.isfunction(vars(made)[name]))
+                    self.assertEqual(arguments(vars(made)[name]), "self" + (", " if told else "") + told)
+            others = [name for name in vars(made) if not name.startswith("_") and name not in methods]
+            self.assertEqual(others, [], kind)
 
     def test_errors(self):
         module = importlib.import_module("ringdown.errors")

@@ -3,7 +3,9 @@
 import unittest
 from copy import deepcopy
 
+from ringdown.blame import check_must, fewest_to_blame, may_have_heard, must_have, must_paper, spared_price, sure_faults
 from ringdown.changepaper import change_paper
+from ringdown.changes import joined, left, moved, redeeped, retalked, rewaited
 from ringdown.counts import fewest_rounds, reached, soonest_tree
 from ringdown.errors import BadCall
 from ringdown.fewest import best_sure, fewest, fewest_paper
@@ -13,8 +15,10 @@ from ringdown.orders import count_orders, in_order, soonest, tails
 from ringdown.places import best_places, places
 from ringdown.ringcheck import check_calls
 from ringdown.rings import carrier_of, last_of, lost_names, quiet_of, ring_calls, told_minute, told_rows
+from ringdown.shapes import shape_numbers
 from ringdown.standings import going_at, standing, standings
 from ringdown.stories import count_stories, least_story, row_of, states_of, story_cost, story_price
+from ringdown.storypaper import check_story, story_paper
 from ringdown.tree import below, in_walk, is_away, is_tree, list_of, names_of
 from ringdown.treetext import read_tree, tree_text
 from ringdown.ways import slack_of, way_of
@@ -65,6 +69,17 @@ TELL_TUPLES = (
     lambda: states_of(CASE),
     lambda: row_of(CASE),
     lambda: least_story(CASE),
+    lambda: story_paper(CASE),
+    lambda: may_have_heard(CASE, "ann"),
+    lambda: sure_faults(CASE),
+    lambda: must_paper(CASE, "ann"),
+    lambda: joined(TREE, "new", "ann", 3),
+    lambda: left(TREE, "ann"),
+    lambda: moved(TREE, "dan", "bob"),
+    lambda: retalked(TREE, "dan", 9),
+    lambda: rewaited(TREE, 9),
+    lambda: redeeped(TREE, 2),
+    lambda: shape_numbers(TREE),
 )
 
 TELL_NUMBERS = (
@@ -86,6 +101,14 @@ TELL_NUMBERS = (
     lambda: story_cost(CASE, least_story(CASE)),
     lambda: story_price(CASE),
     lambda: count_stories(CASE),
+    lambda: spared_price(CASE),
+    lambda: fewest_to_blame(CASE),
+)
+
+TELL_TRUTHS = (
+    lambda: must_have(CASE),
+    lambda: check_story(CASE, story_paper(CASE)),
+    lambda: check_must(CASE, "ann", must_paper(CASE, "ann")),
 )
 
 TELL_TEXTS = (
@@ -97,7 +120,8 @@ TELL_TEXTS = (
 
 class Untouched(unittest.TestCase):
     def test_kinds(self):
-        for kind, tellers in ((list, TELL_LISTS), (tuple, TELL_TUPLES), (int, TELL_NUMBERS), (str, TELL_TEXTS)):
+        for kind, tellers in ((list, TELL_LISTS), (tuple, TELL_TUPLES), (int, TELL_NUMBERS), (str, TELL_TEXTS),
+                              (bool, TELL_TRUTHS)):
             for tell in tellers:
                 self.assertIs(type(tell()), kind)
 
