@@ -72,14 +72,20 @@ def take_leaver_out(state, happening, name):
         put_in_line(state, happening, waiting, holder, place)
 
 
+def drop_key(table, key):
+    """Takes what stands by a key out of a table, if there is something."""
+    if key in table:
+        del table[key]
+
+
 def forget(state, happening, name):
     """Nothing of one who left is told any more, and those whose BY they were have their BY."""
     for key in list(state.bys):
         if key[0] == happening and state.bys[key] == name:
             state.bys[key] = state.bys[(happening, name)]
-    for kept in (state.words, state.bys, state.handed):
-        if (happening, name) in kept:
-            del kept[(happening, name)]
+    drop_key(state.words, (happening, name))
+    drop_key(state.bys, (happening, name))
+    drop_key(state.handed, (happening, name))
 
 
 def leave_it(state, tree, name):

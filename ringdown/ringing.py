@@ -6,10 +6,9 @@ from ringdown.ringdeeds import come_to_phone, go_from_phone, happenings_of, join
 from ringdown.ringminutes import calls_going, go_on_till, go_on_till_rest
 from ringdown.rings import ANSWERED, CALLEE, CALLER, END
 from ringdown.ringstate import HAPPENING, RingState, call_on_phone, copy_of, is_at_rest, stand_by_tree, told_rows_of
-from ringdown.tree import away_or_nobody, in_walk, is_bell, need_name, need_tree
+from ringdown.tree import NO_PEOPLE, away_or_nobody, in_walk, is_bell, need_name, need_tree
 from ringdown.words import LAST_MINUTE, clock_text, is_among, is_name
 
-NO_TREE = (1, 0, ())
 MOST_HAPPENINGS = 6
 MOST_DEEDS = 200
 
@@ -99,7 +98,7 @@ class Ringing:
     """A TREE, a minute, and the HAPPENINGs that were rung."""
 
     def __init__(self, tree=None, away=None):
-        told_tree = NO_TREE if tree is None else tree
+        told_tree = NO_PEOPLE if tree is None else tree
         need_not_deep(told_tree)
         told_away = away_or_nobody(told_tree, away)
         self._first = (told_tree, told_away)

@@ -7,6 +7,7 @@ from ringdown.words import is_among, is_name
 LONGEST_CALL = 60
 DEEPEST = 4
 MOST_PEOPLE = 16
+NO_PEOPLE = (1, 0, ())
 
 
 def is_talk(thing):

@@ -1,10 +1,15 @@
 """The text of a TREE, written and read."""
 
 from ringdown.errors import BadRow
-from ringdown.tree import MOST_PEOPLE, is_deep, is_talk, is_wait, need_tree
-from ringdown.words import is_name, number_of, words_of
+from ringdown.tree import DEEPEST, MOST_PEOPLE, is_talk, is_wait, need_tree
+from ringdown.words import is_among, is_name, number_of, words_of
 
 BELL_WORD = "-"
+
+
+def bell_or_name(name):
+    """The word for a NAME, or for the BELL."""
+    return BELL_WORD if name == "" else name
 
 
 def tree_text(tree):
@@ -13,8 +18,7 @@ def tree_text(tree):
     wait, deep, people = tree
     rows = [f"tree {wait} {deep}"]
     for name, caller, talk in people:
-        caller_word = BELL_WORD if caller == "" else caller
-        rows.append(f"{name} {caller_word} {talk}")
+        rows.append(f"{name} {bell_or_name(caller)} {talk}")
     return "\n".join(rows)
 
 
@@ -35,13 +39,13 @@ def need_words(number, fits, many):
         raise BadRow(number, len(fits) + 1)
 
 
-def head_word_fits(place, word):
-    """Whether a word can stand at that place, from 1, of a TREE's first row."""
+def head_word_fits(place, word, deepest):
+    """Whether a word can stand at that place, from 1, of a TREE's first row, where DEEP is deepest at the most."""
     if place == 1:
         return word == "tree"
     if place == 2:
         return is_wait(number_of(word))
-    return place == 3 and is_deep(number_of(word))
+    return place == 3 and is_among(number_of(word), 0, deepest)
 
 
 def person_word_fits(place, word, ahead):
@@ -53,10 +57,10 @@ def person_word_fits(place, word, ahead):
     return place == 3 and is_talk(number_of(word))
 
 
-def read_head(number, row):
-    """WAIT and DEEP of a TREE's first row, which has that number."""
+def read_head(number, row, deepest):
+    """WAIT and DEEP, deepest at the most, of a TREE's first row, which has that number."""
     words = words_in(number, row)
-    need_words(number, [head_word_fits(place, word) for place, word in enumerate(words, start=1)], 3)
+    need_words(number, [head_word_fits(place, word, deepest) for place, word in enumerate(words, start=1)], 3)
     return number_of(words[1]), number_of(words[2])
 
 
@@ -72,12 +76,17 @@ def read_person(number, row, people):
     return (name, caller, number_of(talk_word))
 
 
-def read_tree(text):
-    """The TREE of a text; BadRow of the first row that can't stand."""
+def rows_of(text):
+    """The rows of a text; BadRow of what is none."""
     if not isinstance(text, str):
         raise BadRow(0, 0)
-    rows = text.split("\n")
-    wait, deep = read_head(1, rows[0])
+    return text.split("\n")
+
+
+def read_tree(text):
+    """The TREE of a text; BadRow of the first row that can't stand."""
+    rows = rows_of(text)
+    wait, deep = read_head(1, rows[0], DEEPEST)
     people = []
     for number, row in enumerate(rows[1:], start=2):
         people.append(read_person(number, row, people))

@@ -67,9 +67,14 @@ def is_minute(thing):
     return is_among(thing, 0, LAST_MINUTE)
 
 
-def clock_text(minute):
-    """A MINUTE as a word: 12:30."""
-    if not is_minute(minute):
-        raise OutOfPlace("no minute from 0 to 5,999")
+def hours_text(minute):
+    """A minute as a word: 12:30, or 100:00 behind the last MINUTE."""
     hours, rest = divmod(minute, 60)
     return f"{hours}:{rest:02d}"
+
+
+def clock_text(minute):
+    """A MINUTE as a word."""
+    if not is_minute(minute):
+        raise OutOfPlace("no minute from 0 to 5,999")
+    return hours_text(minute)

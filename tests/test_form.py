@@ -81,6 +81,13 @@ def is_plain(node):
     return isinstance(node, ast.Constant)
 
 
+def is_table(node):
+    """A dict of plain values, among which there is no list."""
+    if not isinstance(node, ast.Dict) or any(isinstance(each, ast.List) for each in ast.walk(node)):
+        return False
+    return all(is_plain(each) for each in node.keys + node.values)
+
+
 class Files(unittest.TestCase):
     def test_nothing_but_files_of_the_program(self):  # L1, L14
         for file in files():
@@ -127,7 +134,7 @@ class Rows(unittest.TestCase):
             for node in tree.body:
                 if isinstance(node, ast.Assign):
                     self.assertTrue(len(node.targets) == 1 and isinstance(node.targets[0], ast.Name), file)
-                    self.assertTrue(is_plain(node.value), (file, node.lineno))
+                    self.assertTrue(is_plain(node.value) or is_table(node.value), (file, node.lineno))
                 elif isinstance(node, ast.Expr):
                     self.assertIs(node.value, doc_of(tree), file)
                 else:

@@ -77,6 +77,9 @@ FUNCTIONS = {
         "retalked": "tree, name, talk", "rewaited": "tree, wait", "redeeped": "tree, deep",
     },
     "shapes": {"shape_numbers": "tree", "same_shape": "tree, one, other"},
+    "plantext": {"plan_text": "tree, away=None", "read_plan_text": "text"},
+    "ringbook": {"book_text": "ringing"},
+    "bookread": {"read_book": "text"},
 }
 
 # Each class by its file, and its methods with their arguments behind the object itself.
@@ -88,6 +91,17 @@ CLASSES = {
         "happenings": "", "standing": "happening, name", "told": "happening", "missed": "happening", "line": "name=''",
         "going": "", "calls": "", "chain": "happening, name", "forecast": "happening", "deeds": "", "first": "",
         "copied": "", "__eq__": "other", "__len__": "", "__str__": "", "__repr__": "",
+    },
+    ("plan", "Plan"): {
+        "__init__": "tree=None, away=None", "join": "name, caller, talk, place=None", "leave": "name",
+        "move": "name, caller, place=None", "set_talk": "name, talk", "set_wait": "wait", "set_deep": "deep",
+        "go_away": "name", "come_back": "name", "put_in_order": "which='last'", "put_back": "word", "keep": "word",
+        "drop": "word", "kept": "", "tree": "", "away": "", "calls": "", "told": "name", "last": "", "quiet": "", "lost": "",
+        "worst": "many, which='last', name='', sure=None", "soonest": "which='last'", "best_places": "talk, many=0",
+        "changed": "", "looked": "", "copied": "", "__eq__": "other", "__len__": "", "__str__": "", "__repr__": "",
+    },
+    ("desk", "Desk"): {
+        "__init__": "text=None", "say": "line", "plan": "", "live": "", "lines": "", "__len__": "",
     },
 }
 
