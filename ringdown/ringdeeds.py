@@ -72,20 +72,11 @@ def take_leaver_out(state, happening, name):
         put_in_line(state, happening, waiting, holder, place)
 
 
-def drop_key(table, key):
-    """Takes what stands by a key out of a table, if there is something."""
-    if key in table:
-        del table[key]
-
-
-def forget(state, happening, name):
-    """Nothing of one who left is told any more, and those whose BY they were have their BY."""
+def hand_by_on(state, happening, name):
+    """Lets those whose BY is one who leaves have that one's BY."""
     for key in list(state.bys):
         if key[0] == happening and state.bys[key] == name:
             state.bys[key] = state.bys[(happening, name)]
-    drop_key(state.words, (happening, name))
-    drop_key(state.bys, (happening, name))
-    drop_key(state.handed, (happening, name))
 
 
 def leave_it(state, tree, name):
@@ -93,7 +84,8 @@ def leave_it(state, tree, name):
     hand_line_on(state, name)
     for happening in happenings_of(state):
         take_leaver_out(state, happening, name)
-        forget(state, happening, name)
+        hand_by_on(state, happening, name)
+        del state.words[(happening, name)]
     stand_by_tree(state, tree)
     del state.rows[name]
     state.away_ones = [each for each in state.away_ones if each != name]

@@ -429,6 +429,36 @@ class Alike(unittest.TestCase):
                 alike = at == place or {at, place} == {0, 9}
                 self.assertIs(one == other, alike, (at, place))
 
+    def test_calls_that_go_on_till_another_minute(self):
+        one, other = Ringing(HOUSE), Ringing(HOUSE)
+        one.set_talk("ann", 9)
+        for ringing in (one, other):
+            ringing.ring("fire")
+            ringing.go(2)
+        one.set_talk("ann", 3)
+        self.assertEqual((one.tree(), one.calls(), words(one)), (other.tree(), other.calls(), words(other)))
+        self.assertNotEqual(one.going(), other.going())
+        self.assertIs(one == other, False)
+
+    def test_calls_that_ended_at_another_minute(self):
+        one, other = Ringing(HOUSE), Ringing(HOUSE)
+        one.set_talk("ann", 9)
+        for ringing in (one, other):
+            ringing.ring("fire")
+            ringing.go(30)
+        one.set_talk("ann", 3)
+        self.assertEqual((one.tree(), one.going(), words(one)), (other.tree(), other.going(), words(other)))
+        self.assertIs(one == other, False)
+
+    def test_one_who_left_and_one_who_never_was_there(self):
+        one, other = Ringing((2, 0, HOUSE[2] + (("new", "dan", 3),)), ("new",)), Ringing(HOUSE)
+        for ringing in (one, other):
+            ringing.ring("fire")
+            ringing.go(4)
+        self.assertIs(one == other, False)
+        one.leave("new")
+        self.assertIs(one == other, True)
+
     def test_the_order_of_the_happenings(self):
         one, other = Ringing(EMPTY), Ringing(EMPTY)
         for word, last in (("a", "b"), ("b", "a")):
